@@ -1,0 +1,1 @@
+"""Paritydesk: words of bits, codes of them, and how they are mended."""
