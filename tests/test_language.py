@@ -147,6 +147,7 @@ class Language(unittest.TestCase):
             for name in inside:
                 self.assertNotIn(name, OWN_NAMES_OF_PYTHON)
                 self.assertNotIn(name, top)
+                self.assertFalse(name.startswith("_"))
             for node in nodes_of(tree, ast.Name):
                 self.assertNotIn(node.id, UNUSED_NAMES)
                 self.assertRegex(node.id, r"^[A-Za-z][A-Za-z0-9_]*$")
