@@ -28,6 +28,11 @@ def weight(word):
     return sum(word)
 
 
+def lightness(word):
+    # The order in which leaders are chosen: the least weight, of several the first.
+    return (weight(word), word)
+
+
 def apart(one, other):
     return weight(plus(one, other))
 
@@ -38,3 +43,10 @@ def meet_evenly(one, other):
 
 def none(size):
     return (0,) * size
+
+
+def all_words(size):
+    words = [()]
+    for place in range(size):
+        words = [(0,) + word for word in words] + [(1,) + word for word in words]
+    return words

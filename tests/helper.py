@@ -3,8 +3,16 @@
 from itertools import product
 
 from paritydesk import errors
+from paritydesk.desks import made
 
 REFUSALS = ("NoDesk", "NotIn", "Unlike", "NoPlace", "BadText", "BadWords")
+
+EVEN = (4, ((1, 0, 0, 1), (0, 1, 0, 1), (0, 0, 1, 1)))
+SEVEN = (7, ((1, 0, 0, 0, 0, 1, 1), (0, 1, 0, 0, 1, 0, 1), (0, 0, 1, 0, 1, 1, 0), (0, 0, 0, 1, 1, 1, 1)))
+GAPPED = (5, ((0, 1, 1, 0, 0), (0, 0, 0, 0, 1)))
+FULL = (10, tuple(tuple(1 if at == row else 0 for at in range(10)) for row in range(10)))
+EMPTY = (3, ())
+DESKS = (EVEN, SEVEN, GAPPED, FULL, EMPTY, (1, ()), (1, ((1,),)), (10, ()), (10, ((1,) * 10,)))
 
 
 class Prickly:
@@ -61,6 +69,72 @@ def sample_lists():
                 number = state >> 9
                 words.append(tuple((number >> place) % 2 for place in range(size)))
             found.append((size, words))
+    return found
+
+
+def told_as_a_desk(desk):
+    """Whether point 3 holds of a tuple of words, said word for word."""
+    size, rows = desk
+    firsts = []
+    for row in rows:
+        ones = [place for place in range(size) if row[place] == 1]
+        if not ones:
+            return False
+        firsts.append(ones[0])
+    rising = all(firsts[at] < firsts[at + 1] for at in range(len(firsts) - 1))
+    alone = all(rows[at][firsts[by]] == 0 for at in range(len(rows)) for by in range(len(rows)) if at != by)
+    return rising and alone
+
+
+def no_desks():
+    """What is no desk, of many kinds."""
+    found = odd_things() + [[3, ()], (3,), (3, (), ()), ((), 3), [[1]], "3:", (3, None), (3, 7), (3, Prickly())]
+    found += [(size, ()) for size in odd_things() + [0, "3", (3,), [3]]]
+    found += [(3, rows) for rows in odd_things() if not isinstance(rows, tuple)] + [(3, ("100",))]
+    found += [(2, [(1, 0)]), (2, {(1, 0): True}), (2, {(1, 0)}), (2, ([1, 0],)), (2, (1, 0)), (2, ("10",))]
+    found += [(2, ((1, 0), (1, 0))), (2, ((0, 0),)), (2, ((1, 0), (0, 0))), (2, ((0, 0), (1, 0)))]
+    found += [(2, ((0, 1), (1, 0))), (2, ((1, 1), (0, 1))), (2, ((1, 0), (1, 1))), (2, ((1, 0), (0, 1), (1, 1)))]
+    found += [(2, ((1, 0, 0),)), (2, ((1,),)), (2, ((1, 0), (0, 1, 0))), (2, ((),)), (3, ((1, 0),))]
+    found += [(11, ((1,) * 11,)), (0, ((),)), (1, ((1,),) * 1000), (10, FULL[1] + ((0,) * 10,))]
+    found += [(2, ((bit, 0),)) for bit in odd_bits()] + [(2, ((1, bit),)) for bit in odd_bits()]
+    found += [(2, ((1, 0), row)) for row in odd_things()]
+    return found
+
+
+def sample_desks():
+    """Desks of all sizes, with no row, with some and with as many as the size, each once."""
+    found = list(DESKS) + [made(size, words) for size, words in sample_lists()]
+    found += [(size, ((1,) * size,)) for size in range(1, 11)]
+    found += [(size, tuple(row[:size] for row in FULL[1][:size])) for size in range(1, 11)]
+    return sorted(set(found))
+
+
+def small_desks():
+    """The desks of all codes of sizes 1 to 4."""
+    found = set()
+    for size in range(1, 5):
+        for words in product(all_words(size), repeat=size):
+            found.add(made(size, list(words)))
+    return sorted(found)
+
+
+def even(one, other):
+    """Whether two words have a 1 in common at an even number of places."""
+    return len([place for place in range(len(one)) if one[place] == 1 and other[place] == 1]) % 2 == 0
+
+
+def things_not_in(desk):
+    """What is no word of a desk's size: other kinds, too long, too short, with a bit of another kind."""
+    size = desk[0]
+    code = sorted(code_of(size, desk[1]))[:9]
+    found = odd_things() + [desk, desk[1], [0] * size, (0,) * (size + 1), (0,) * (size - 1), 0, 1]
+    found += [list(word) for word in code] + [word + (0,) for word in code] + [word[1:] for word in code]
+    found += ["".join(str(bit) for bit in word) for word in code] + [dict(enumerate(word)) for word in code]
+    found += [tuple(bit == 1 for bit in word) for word in code] + [tuple(float(bit) for bit in word) for word in code]
+    for word in code:
+        found += [word[:place] + (word[place] == 1,) + word[place + 1:] for place in range(size)]
+    for place in range(size):
+        found += [(0,) * place + (bit,) + (0,) * (size - place - 1) for bit in odd_bits()]
     return found
 
 

@@ -2,43 +2,8 @@ import unittest
 from itertools import permutations, product
 
 from paritydesk.desks import checked, count, has, heads, made, words_of
-from tests.helper import Prickly, added, all_words, code_of, odd_bits, odd_things, refused, sample_lists
-
-EVEN = (4, ((1, 0, 0, 1), (0, 1, 0, 1), (0, 0, 1, 1)))
-SEVEN = (7, ((1, 0, 0, 0, 0, 1, 1), (0, 1, 0, 0, 1, 0, 1), (0, 0, 1, 0, 1, 1, 0), (0, 0, 0, 1, 1, 1, 1)))
-GAPPED = (5, ((0, 1, 1, 0, 0), (0, 0, 0, 0, 1)))
-FULL = (10, tuple(tuple(1 if at == row else 0 for at in range(10)) for row in range(10)))
-EMPTY = (3, ())
-DESKS = (EVEN, SEVEN, GAPPED, FULL, EMPTY, (1, ()), (1, ((1,),)), (10, ()), (10, ((1,) * 10,)))
-
-
-def told_as_a_desk(desk):
-    """Whether point 3 holds of a tuple of words, said word for word."""
-    size, rows = desk
-    firsts = []
-    for row in rows:
-        ones = [place for place in range(size) if row[place] == 1]
-        if not ones:
-            return False
-        firsts.append(ones[0])
-    rising = all(firsts[at] < firsts[at + 1] for at in range(len(firsts) - 1))
-    alone = all(rows[at][firsts[by]] == 0 for at in range(len(rows)) for by in range(len(rows)) if at != by)
-    return rising and alone
-
-
-def no_desks():
-    """What is no desk, of many kinds."""
-    found = odd_things() + [[3, ()], (3,), (3, (), ()), ((), 3), [[1]], "3:", (3, None), (3, 7), (3, Prickly())]
-    found += [(size, ()) for size in odd_things() + [0, "3", (3,), [3]]]
-    found += [(3, rows) for rows in odd_things() if not isinstance(rows, tuple)] + [(3, ("100",))]
-    found += [(2, [(1, 0)]), (2, {(1, 0): True}), (2, {(1, 0)}), (2, ([1, 0],)), (2, (1, 0)), (2, ("10",))]
-    found += [(2, ((1, 0), (1, 0))), (2, ((0, 0),)), (2, ((1, 0), (0, 0))), (2, ((0, 0), (1, 0)))]
-    found += [(2, ((0, 1), (1, 0))), (2, ((1, 1), (0, 1))), (2, ((1, 0), (1, 1))), (2, ((1, 0), (0, 1), (1, 1)))]
-    found += [(2, ((1, 0, 0),)), (2, ((1,),)), (2, ((1, 0), (0, 1, 0))), (2, ((),)), (3, ((1, 0),))]
-    found += [(11, ((1,) * 11,)), (0, ((),)), (1, ((1,),) * 1000), (10, FULL[1] + ((0,) * 10,))]
-    found += [(2, ((bit, 0),)) for bit in odd_bits()] + [(2, ((1, bit),)) for bit in odd_bits()]
-    found += [(2, ((1, 0), row)) for row in odd_things()]
-    return found
+from tests.helper import DESKS, EMPTY, EVEN, FULL, GAPPED, SEVEN, added, all_words, code_of, no_desks, odd_bits
+from tests.helper import odd_things, refused, sample_lists, things_not_in, told_as_a_desk
 
 
 def with_one_row_changed(desk):
@@ -256,15 +221,7 @@ class LookedUp(unittest.TestCase):
 
     def test_has_no_thing_of_another_kind(self):
         for desk in DESKS:
-            size = desk[0]
-            things = odd_things() + [desk, desk[1], [0] * size, (0,) * (size + 1), (0,) * (size - 1), 0, 1]
-            things += [list(word) for word in words_of(desk)[:9]]
-            things += [word + (0,) for word in words_of(desk)[:9]] + [word[1:] for word in words_of(desk)[:9]]
-            things += ["".join(str(bit) for bit in word) for word in words_of(desk)[:9]]
-            things += [(0,) * (size - 1) + (bit,) for bit in odd_bits()]
-            things += [(bit,) + (0,) * (size - 1) for bit in odd_bits()]
-            things += [(True,) * size, (False,) * size, (1.0,) * size, (0.0,) * size]
-            for thing in things:
+            for thing in things_not_in(desk):
                 self.assertIs(has(desk, thing), False)
 
     def test_what_is_no_desk_is_refused_here_too(self):

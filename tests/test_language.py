@@ -140,6 +140,16 @@ class Language(unittest.TestCase):
 
         self.each(check)
 
+    def test_no_two_files_draw_from_one_another(self):
+        drawn = {}
+        for path in files():
+            rows = nodes_of(ast.parse(path.read_text()), ast.ImportFrom)
+            drawn[path.stem] = {row.module.split(".")[1] for row in rows}
+        settled = set()
+        for _ in range(len(drawn)):
+            settled |= {name for name in drawn if drawn[name] <= settled}
+        self.assertEqual(settled, set(drawn))
+
     def test_names(self):
         def check(text, tree):
             top = bound_on_top(tree)
