@@ -1,5 +1,6 @@
 """What several tests need: words, codes by plain closing, things of odd kinds, refusals."""
 
+from functools import lru_cache
 from itertools import product
 
 from paritydesk import errors
@@ -109,13 +110,34 @@ def sample_desks():
     return sorted(set(found))
 
 
-def small_desks():
-    """The desks of all codes of sizes 1 to 4."""
+@lru_cache(maxsize=None)
+def small_desks_once():
     found = set()
     for size in range(1, 5):
         for words in product(all_words(size), repeat=size):
             found.add(made(size, list(words)))
-    return sorted(found)
+    return tuple(sorted(found))
+
+
+def small_desks():
+    """The desks of all codes of sizes 1 to 4."""
+    return list(small_desks_once())
+
+
+def desks_of_size(size):
+    """The sample desks of one size, and of a small one the desks of all codes."""
+    return [desk for desk in (small_desks() if size < 5 else sample_desks()) if desk[0] == size]
+
+
+def holds_just(case, desk, size, words):
+    """See that this is the desk of a size whose code has just these words."""
+    case.assertEqual([type(desk), type(desk[0]), type(desk[1])], [tuple, int, tuple])
+    case.assertEqual(desk[0], size)
+    for row in desk[1]:
+        case.assertEqual([type(row), len(row)], [tuple, size])
+        case.assertEqual({type(bit) for bit in row}, {int})
+    case.assertTrue(told_as_a_desk(desk))
+    case.assertEqual(code_of(size, desk[1]), set(words))
 
 
 def even(one, other):

@@ -1,4 +1,4 @@
-"""The names and arguments of the interface, as far as they have landed."""
+"""The names and arguments of the interface."""
 
 import importlib
 import inspect
@@ -12,6 +12,12 @@ FUNCTIONS = {
     "checks": ("checks(desk)", "sign(desk, word)", "leaders(desk)"),
     "mending": ("mended(desk, word)", "gap(desk)", "reach(desk)"),
     "tearing": ("fillings(desk, torn)", "sure(desk, torn)"),
+    "several": ("joined(one, other)", "met(one, other)", "within(one, other)", "beside(one, other)",
+                "doubled(one, other)"),
+    "cutting": ("cut(desk, place)", "kept(desk, place)"),
+    "counting": ("counts(desk)", "counts_of_checks(numbers)", "rank(desk, places)", "are_free(desk, places)",
+                 "tell_all(desk, places)"),
+    "texts": ("shown(desk)", "read(text)"),
 }
 
 

@@ -140,6 +140,14 @@ class Language(unittest.TestCase):
 
         self.each(check)
 
+    def test_the_values_of_the_top_are_plain(self):
+        def check(text, tree):
+            for node in tree.body:
+                if isinstance(node, ast.Assign):
+                    self.assertEqual(nodes_of(node.value, ast.BinOp, ast.Call, ast.ListComp, ast.JoinedStr), [])
+
+        self.each(check)
+
     def test_no_two_files_draw_from_one_another(self):
         drawn = {}
         for path in files():
